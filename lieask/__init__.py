@@ -1,0 +1,1 @@
+"""Lieask: a thing sought by questions, some of whose answers are lies."""
