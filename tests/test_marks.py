@@ -3,18 +3,11 @@ import inspect
 import itertools
 import unittest
 
-from helper import FAR, all_marks, all_questions, refused
+from helper import ALL_LIES, BAD_LIES, BAD_QUESTIONS, BAD_THINGS, all_marks, all_questions, mixed_numbers, refused
 from lieask.errors import NoLies, NoMarks, NoQuestion
 from lieask.marks import after, begun, marked, standing
 
-ALL_LIES = (0, 1, 2)
-BAD_LIES = (-1, 3) + FAR
-BAD_THINGS = (0, -1, 9) + FAR
 FEW = (1, 2, 3)
-
-# Each is a bad question about 3 things.
-BAD_QUESTIONS = ([0, 0], [1, 1, 2], [2, 2], [0, 1, 0], [1, 0], [2, 0, 1], [0, 2, 1], [-1], [-1, 0], [3], [0, 3],
-                 [0, 1, 2, 3], [2, -1], [10 ** 5000], [-10 ** 5000])
 
 
 def lies_told(thing, talk):
@@ -30,14 +23,11 @@ def lies_told(thing, talk):
 
 def many_talks():
     """Long talks of eight things, by a rule that takes in every question and both answers in mixed order."""
-    state = 1
+    turns = [([thing for thing in range(8) if number >> thing & 1], number >> 8 & 1 == 1)
+             for number in mixed_numbers(406)]
     for size in list(range(0, 12)) + [40, 300]:
-        talk = []
-        for _ in range(size):
-            state = (state * 75 + 74) % 65537
-            asked = [thing for thing in range(8) if state >> thing & 1]
-            talk.append((asked, state >> 8 & 1 == 1))
-        yield talk
+        yield turns[:size]
+        turns = turns[size:]
 
 
 class Interface(unittest.TestCase):
